@@ -1,0 +1,1 @@
+"""Stores whose calls take the best thing that they accept."""

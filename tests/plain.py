@@ -1,0 +1,163 @@
+"""Plain second ways of finding answers: slow, and straight from the definitions of the document."""
+
+import itertools
+
+
+def played(log):
+    """Return the list of (told, there) behind each row of a log: what it tells, and the things, a list."""
+    there = []
+    behind = []
+    for row in log:
+        told = None
+        if row[0] == "put":
+            there = there + [(row[1], row[2])]
+        elif row[0] == "drop":
+            there = [thing for thing in there if thing[0] != row[1]]
+        else:
+            taken = [thing for kind in row[1] for thing in there if thing[1] == kind]
+            if taken:
+                told = taken[0][0]
+                there = [thing for thing in there if thing != taken[0]]
+        behind.append((told, there))
+    return behind
+
+
+def best(log):
+    """Return the best of a plain log: the greatest number of calls that a giving has."""
+    def most(index, puts):
+        if index == len(log):
+            return 0
+        row = log[index]
+        if row[0] == "put":
+            return most(index + 1, puts + (row[2],))
+        tries = [most(index + 1, puts)]
+        for kind in set(puts) & set(row[1]):
+            at = puts.index(kind)
+            tries.append(1 + most(index + 1, puts[:at] + puts[at + 1:]))
+        return max(tries)
+    return most(0, ())
+
+
+def acted(house, stretch, amounts):
+    """Return the amounts behind a stretch."""
+    left = dict(amounts)
+    for sort, what in stretch:
+        if sort == "put":
+            left[what] += 1
+        else:
+            here = [kind for kind in house[0] if kind in what and left[kind] > 0]
+            if here:
+                left[here[0]] -= 1
+    return left
+
+
+def amounts_up_to(house, most):
+    """Return all amounts with at most so many things of each kind."""
+    return [dict(zip(house[0], numbers)) for numbers in itertools.product(range(most + 1), repeat=len(house[0]))]
+
+
+def alike(house, one, other):
+    """Tell by [7] whether two stretches make the same of all amounts."""
+    most = max(len(one), len(other))
+    return all(acted(house, one, amounts) == acted(house, other, amounts) for amounts in amounts_up_to(house, most))
+
+
+def forks(house):
+    """Return the ascending list of all forks, each combination tried."""
+    kinds, calls = house
+    return sorted(
+        (one, other, kind, behind)
+        for one, other, kind, behind in itertools.product(calls, calls, kinds, kinds)
+        if kind in one and kind in other
+        and kinds.index(behind) > kinds.index(kind) and behind in one and behind not in other
+    )
+
+
+def tails_agree(house):
+    """Tell whether any two calls that accept a kind have the same tail of it."""
+    kinds, calls = house
+    return all(
+        len({tuple(behind for behind in call if kinds.index(behind) > kinds.index(kind)) for call in calls if kind in call}) <= 1
+        for kind in kinds
+    )
+
+
+def crossings(house):
+    """Return the ascending list of all crossings, each combination tried."""
+    kinds, calls = house
+    return sorted(
+        (both, one, other, kind, behind)
+        for both, one, other, kind, behind in itertools.product(calls, calls, calls, kinds, kinds)
+        if kinds.index(kind) < kinds.index(behind) and kind in both and behind in both
+        and kind in one and behind not in one and behind in other and kind not in other
+    )
+
+
+def turned(house, order):
+    """Return the house with this order of its kinds."""
+    return order, tuple(sorted(tuple(kind for kind in order if kind in call) for call in house[1]))
+
+
+def nested_orders(house):
+    """Return the ascending list of the orders by which the house has no fork, all orders tried."""
+    return [order for order in itertools.permutations(sorted(house[0])) if tails_agree(turned(house, order))]
+
+
+def exchanged_to(house, stretch):
+    """Return the ascending list of the stretches to which exchanges of neighbours lead that are alike."""
+    seen = {stretch}
+    waiting = [stretch]
+    while waiting:
+        deeds = waiting.pop()
+        for at in range(len(deeds) - 1):
+            one, other = deeds[at:at + 2]
+            changed = deeds[:at] + (other, one) + deeds[at + 2:]
+            if changed not in seen and alike(house, (one, other), (other, one)):
+                seen.add(changed)
+                waiting.append(changed)
+    return sorted(seen)
+
+
+def sets(house):
+    """Return the list of all SETS of a house."""
+    kinds = house[0]
+    return [part for size in range(len(kinds) + 1) for part in itertools.combinations(kinds, size)]
+
+
+def beginning_sets(house):
+    """Return the ascending list of all beginning sets."""
+    return sorted(
+        part for part in sets(house)
+        if all(call.index(one) < call.index(other)
+               for call in house[1] for one in call for other in call if one in part and other not in part)
+    )
+
+
+def count(amounts, part):
+    """Return the number of things of the kinds of part."""
+    return sum(number for kind, number in amounts.items() if kind in part)
+
+
+def brief(house, stretch):
+    """Return the least numbers of [25]: of n(A) behind the stretch less n(B) ahead of it, over all small amounts."""
+    begins = beginning_sets(house)
+    pairs = [(amounts, acted(house, stretch, amounts)) for amounts in amounts_up_to(house, len(stretch))]
+    return {
+        whole: {
+            part: min(count(behind, whole) - count(ahead, part) for ahead, behind in pairs)
+            for part in begins if set(part) <= set(whole)
+        }
+        for whole in begins
+    }
+
+
+def joined(house, one, other):
+    """Return the greatest sums of [25], each set between tried."""
+    begins = beginning_sets(house)
+    return {
+        whole: {
+            last: max(other[whole][part] + one[part][last] for part in begins if set(last) <= set(part) <= set(whole))
+            for last in begins if set(last) <= set(whole)
+        }
+        for whole in begins
+    }
