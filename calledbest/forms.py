@@ -97,7 +97,7 @@ def is_stretch(house, thing):
 
 def is_row(house, thing):
     """Tell whether thing is a ROW of a log of the house."""
-    if not isinstance(thing, tuple) or len(thing) < 2:
+    if not isinstance(thing, tuple) or thing == ():
         return False
     if thing[0] == "put":
         return len(thing) == 3 and is_name(thing[1]) and thing[2] in house[0]

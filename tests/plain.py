@@ -23,19 +23,19 @@ def played(log):
 
 
 def best(log):
-    """Return the best of a plain log: the greatest number of calls that a giving has."""
-    def most(index, puts):
-        if index == len(log):
-            return 0
-        row = log[index]
-        if row[0] == "put":
-            return most(index + 1, puts + (row[2],))
-        tries = [most(index + 1, puts)]
-        for kind in set(puts) & set(row[1]):
-            at = puts.index(kind)
-            tries.append(1 + most(index + 1, puts[:at] + puts[at + 1:]))
-        return max(tries)
-    return most(0, ())
+    """Return the best of a plain log: as many calls are served as chains of other puts for them allow."""
+    given = {}
+
+    def serve(call, tried):
+        for put, row in enumerate(log[:call]):
+            if row[0] == "put" and row[2] in log[call][1] and put not in tried:
+                tried.add(put)
+                if put not in given or serve(given[put], tried):
+                    given[put] = call
+                    return True
+        return False
+
+    return len([call for call, row in enumerate(log) if row[0] == "call" and serve(call, set())])
 
 
 def acted(house, stretch, amounts):

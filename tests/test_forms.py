@@ -107,7 +107,7 @@ class FormsTest(CallCase):
         wrong = [
             (), ("put",), ("put", "c"), ("put", "a", "b"), ("put", "x", "a"), ["put", "a"], ("put", ("a",)), ("call", "b"),
             ("call", ("a",)), ("call", ("b", "a")), ("call", ["b"]), ("call", ("b",), 1), ("drop", "a"), ("Put", "a"),
-            (None, "a"), (True, "a"), ("put", None), ("put", ["a"]), ("call", None), ("call", {}), "put a", {"put": "a"},
+            (None, "a"), (True, "a"), ("take", ("b",)), ("put", ("b",)), (None, ("b",)), ("call", ("b",), ()), ("put", None), ("put", ["a"]), ("call", None), ("call", {}), "put a", {"put": "a"},
         ]
         self.ask(forms.is_deed, deeds_of(AB), wrong, AB)
 
@@ -133,7 +133,7 @@ class FormsTest(CallCase):
             (("put", ["x"], "a"),), (("put", "x", "c"),), (("put", "x", ["a"]),), (("put", "x", "a", "a"),), (["put", "x", "a"],),
             (("call", ("a",)),), (("call", ["b"]),), (("call", ("b",), ("b",)),), (("call",),), (("drop",),), (("drop", "x", "a"),),
             (("drop", "X"),), (("drop", None),), (("drop", ["x"]),), (("drop", ""),), ("drop", "x"), (None,), (1, 2), None, {}, "",
-            (("take", "x"),), (("put", "x", "a"), ("put", "x", "b")), ((),), (("put",),), (("put", "x", True),), (("put", True, "a"),),
+            (("take", "x"),), (("take", ("b",)),), (("drop", ("b",)),), (("put", "x", "a"), ("put", "x", "b")), ((),), (("put",),), (("put", "x", True),), (("put", True, "a"),),
         ]
         self.ask(forms.is_log, plain + dropping, wrong, AB)
         self.ask(forms.is_plain_log, plain, wrong + dropping, AB)

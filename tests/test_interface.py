@@ -20,6 +20,28 @@ FUNCTIONS = {
         "told_by(house, log)", "taken_by(house, log)", "amounts_at(house, log, moment)", "there_at(house, log, moment)",
         "served_at(house, log)",
     ],
+    "acts": [
+        "acted(house, stretch, amounts)", "no_amounts(house)", "plus_amounts(one, other)", "kinds_taken(house, stretch, amounts)",
+        "stretch_of(log)", "log_of(stretch)",
+    ],
+    "forks": ["forks_of(house)", "is_fork(house, thing)", "is_nested(house)", "next_kinds(house)"],
+    "crossings": ["crossings_of(house)", "is_crossing(house, thing)"],
+    "orders": [
+        "accepted_less(house, one, other)", "nested_orders(house)", "nested_order(house)", "nearest_order(house)",
+        "bound_pairs(house)",
+    ],
+    "exchange": [
+        "may_change(house, one, other)", "same_by_exchange(house, one, other)", "parted_by(house, one, other)",
+        "exchanged_to(house, stretch)", "least_exchanged(house, stretch)",
+    ],
+    "losing": ["losing_log(house)", "half_log(house, rounds)"],
+    "begins": [
+        "beginning_sets(house)", "least_beginning(house, part)", "count_in(amounts, part)", "counts_of(house, amounts)",
+        "amounts_of(house, counts)",
+    ],
+    "briefs": [
+        "brief_of(house, stretch)", "joined(house, one, other)", "acted_by(house, brief, amounts)", "is_brief(house, thing)",
+    ],
 }
 
 METHODS = {

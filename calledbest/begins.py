@@ -1,0 +1,64 @@
+"""Beginning sets, and how many things they have."""
+
+from calledbest.forms import in_order
+
+
+def sets_of(kinds):
+    """Return the list of all SETS of kinds."""
+    sets = [()]
+    for kind in kinds:
+        sets = sets + [(*part, kind) for part in sets]
+    return sets
+
+
+def is_within(part, whole):
+    """Tell whether all kinds of part stand in whole."""
+    return all([kind in whole for kind in part])
+
+
+def is_beginning(house, part):
+    """Tell whether in each call the kinds of part are ahead of the others."""
+    starts = [call[:len(in_order(call, part))] for call in house[1]]
+    return all([is_within(start, part) for start in starts])
+
+
+def beginning_sets(house):
+    """Return the ascending list of all beginning sets."""
+    return sorted([part for part in sets_of(house[0]) if is_beginning(house, part)])
+
+
+def least_beginning(house, part):
+    """Return the smallest beginning set that has all kinds of part."""
+    needed = list(part)
+    # From the last kind on: what a kind needs is ahead of it, and its turn comes later.
+    for kind in reversed(house[0]):
+        if kind in needed:
+            needed = needed + kinds_ahead(house, kind)
+    return in_order(house[0], needed)
+
+
+def kinds_ahead(house, kind):
+    """Return the list of the kinds that are ahead of a kind in some call that accepts it."""
+    return [ahead for call in house[1] if kind in call for ahead in call[:call.index(kind)]]
+
+
+def count_in(amounts, part):
+    """Return the number of things of the kinds in part."""
+    return sum([amounts[kind] for kind in part])
+
+
+def counts_of(house, amounts):
+    """Return the dict from all beginning sets to the numbers of things in them."""
+    return {part: count_in(amounts, part) for part in beginning_sets(house)}
+
+
+def amounts_of(house, counts):
+    """Return the amounts that have such counts."""
+    return {kind: count_of_kind(house, counts, kind) for kind in sorted(house[0])}
+
+
+def count_of_kind(house, counts, kind):
+    """Return how many things of a kind there are by counts."""
+    part = least_beginning(house, (kind,))
+    # The kind is the last one of part, and no kind of part needs it: the rest is a beginning set, too.
+    return counts[part] - counts[part[:-1]]
