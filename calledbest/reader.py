@@ -68,14 +68,16 @@ def check_text(house, text):
         raise Wrong(1)
 
 
+def rows_in(text):
+    """Return the list of the index and the row of each line that is not skipped."""
+    return [(index, row_of(words)) for index, words in enumerate(lines_of(text)) if words != []]
+
+
 def read_stretch(house, text):
     """Return the stretch that a text shows."""
     check_text(house, text)
     deeds = []
-    for index, words in enumerate(lines_of(text)):
-        if words == []:
-            continue
-        deed = row_of(words)
+    for index, deed in rows_in(text):
         if not is_deed(house, deed):
             raise NoText(index)
         deeds.append(deed)
@@ -87,10 +89,7 @@ def read_log(house, text):
     check_text(house, text)
     rows = []
     names = set()
-    for index, words in enumerate(lines_of(text)):
-        if words == []:
-            continue
-        row = row_of(words)
+    for index, row in rows_in(text):
         if not is_row(house, row):
             raise NoText(index)
         if row[0] == "put":
