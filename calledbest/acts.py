@@ -22,6 +22,11 @@ def do_deed(amounts, deed):
     return kind
 
 
+def deeds_of(house):
+    """Return the list of all deeds of a house."""
+    return [("put", kind) for kind in house[0]] + [("call", call) for call in house[1]]
+
+
 def acted(house, stretch, amounts):
     """Return the amounts behind a stretch."""
     left = {kind: amounts[kind] for kind in sorted(house[0])}

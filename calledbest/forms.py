@@ -117,3 +117,15 @@ def is_log(house, thing):
 def is_plain_log(house, thing):
     """Tell whether thing is a plain LOG of the house."""
     return is_log(house, thing) and all([row[0] != "drop" for row in thing])
+
+
+def is_index(log, sort, thing):
+    """Tell whether thing is the index of a row of this sort, "put", "call" or "drop", of a log."""
+    return is_integer(thing) and 0 <= thing < len(log) and log[thing][0] == sort
+
+
+def are_indexes(log, sort, thing):
+    """Tell whether thing is an ascending tuple of indexes of rows of this sort."""
+    if not isinstance(thing, tuple) or not all([is_index(log, sort, index) for index in thing]):
+        return False
+    return list(thing) == sorted(set(thing))

@@ -121,6 +121,27 @@ def all_amounts(house, most):
     return [dict(zip(kinds, numbers)) for numbers in itertools.product(range(most + 1), repeat=len(kinds))]
 
 
+def random_giver(chance, house, marks, refuses=True):
+    """Return a giver with so many marks, its keys in any order."""
+    keys = [
+        (mark, call, there)
+        for mark in range(marks) for call in house[1]
+        for size in range(len(call) + 1) for there in itertools.combinations(call, size)
+    ]
+    chance.shuffle(keys)
+    gives = {}
+    for key in keys:
+        gifts = [None] if key[2] == () else list(key[2]) + [None] * refuses
+        gives[key] = (chance.choice(gifts), chance.randrange(marks))
+    notes = {(mark, kind): chance.randrange(marks) for mark in range(marks) for kind in house[0]}
+    return marks, gives, notes
+
+
+def turned_about(table):
+    """Return the dict with its keys in the other order."""
+    return {key: table[key] for key in reversed(list(table))}
+
+
 class CallCase(unittest.TestCase):
     """A case that asks for errors, and for what holds of every function."""
 

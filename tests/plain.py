@@ -161,3 +161,83 @@ def joined(house, one, other):
         }
         for whole in begins
     }
+
+
+def all_stretches(house, length):
+    """Return the list of all stretches of this length."""
+    deeds = [("put", kind) for kind in house[0]] + [("call", call) for call in house[1]]
+    return list(itertools.product(deeds, repeat=length))
+
+
+def act(house, stretch, most):
+    """Return what a stretch makes of all amounts with at most so many things of each kind."""
+    return tuple(tuple(acted(house, stretch, amounts).items()) for amounts in amounts_up_to(house, most))
+
+
+def without(rows, indexes):
+    """Return the tuple of the rows, or deeds, but for those with these indexes."""
+    return tuple(row for index, row in enumerate(rows) if index not in indexes)
+
+
+def indexes_of(log, sort):
+    """Return the list of the indexes of the rows of this sort."""
+    return [index for index, row in enumerate(log) if row[0] == sort]
+
+
+def pairs(log):
+    """Return the list of the tuples (put, call) of all pairs of a plain log."""
+    return [
+        (put, call)
+        for put in indexes_of(log, "put") for call in indexes_of(log, "call")
+        if put < call and log[put][2] in log[call][1]
+    ]
+
+
+def givings(log):
+    """Return the list of all givings of a plain log, each call tried with each put."""
+    found = [{}]
+    for call in indexes_of(log, "call"):
+        puts = [put for put, later in pairs(log) if later == call]
+        found = found + [{**giving, call: put} for giving in found for put in puts if put not in giving.values()]
+    return found
+
+
+def best_moments(log):
+    """Return the list of the best of the rows done, for each moment."""
+    return [best(log[:moment]) for moment in range(len(log) + 1)]
+
+
+def given(house, giver, log):
+    """Return the list of (key, name) for each row of a plain log: the key of gives that a call uses, what it is given."""
+    mark, there, told = 0, [], []
+    for row in log:
+        if row[0] == "put":
+            there = there + [row[1:]]
+            mark = giver[2][(mark, row[2])]
+            told.append((None, None))
+            continue
+        kinds = tuple(kind for kind in row[1] if kind in [thing[1] for thing in there])
+        key = (mark, row[1], kinds)
+        kind, mark = giver[1][key]
+        names = [thing[0] for thing in there if thing[1] == kind]
+        told.append((key, names[0] if names else None))
+        there = [thing for thing in there if thing[0] not in names[:1]]
+    return told
+
+
+def lots_that_can_be_struck(house, stretch):
+    """Return the list of all lots without which the stretch is alike, each lot tried."""
+    lots = [
+        lot for size in range(len(stretch) + 1) for lot in itertools.combinations(range(len(stretch)), size)
+    ]
+    behind = act(house, stretch, len(stretch))
+    return [lot for lot in lots if act(house, without(stretch, lot), len(stretch)) == behind]
+
+
+def settled(stretch):
+    """Return what is left of a stretch if couples of a put and a call go one by one, the first one first."""
+    for at in range(len(stretch) - 1):
+        one, other = stretch[at:at + 2]
+        if one[0] == "put" and other[0] == "call" and other[1][0] == one[1]:
+            return settled(stretch[:at] + stretch[at + 2:])
+    return stretch

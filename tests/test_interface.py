@@ -42,6 +42,25 @@ FUNCTIONS = {
     "briefs": [
         "brief_of(house, stretch)", "joined(house, one, other)", "acted_by(house, brief, amounts)", "is_brief(house, thing)",
     ],
+    "alike": ["are_alike(house, one, other)", "parting_amounts(house, one, other)"],
+    "unlike": ["unlike_stretches(house, many)", "acts_many(house, length)"],
+    "best": [
+        "best_of(house, log)", "giving_of(house, log)", "cover_of(house, log)", "is_giving(house, log, thing)",
+        "is_cover(house, log, thing)", "best_at(house, log)", "needed_rows(house, log)",
+    ],
+    "together": [
+        "giving_for(house, log, calls)", "lack_for(house, log, calls)", "is_lack(house, log, thing)",
+        "dearest(house, log, worths)",
+    ],
+    "givers": [
+        "is_giver(house, thing)", "best_first(house)", "first_refusal(house, giver)", "given_by(house, giver, log)",
+        "served_by(house, giver, log)", "first_loss(house, giver, log)",
+    ],
+    "opponent": ["quarter_log(house, giver, many)"],
+    "struck": [
+        "struck(stretch, indexes)", "settled(house, stretch)", "can_be_struck(house, stretch, indexes)",
+        "greatest_strikes(house, stretch)",
+    ],
 }
 
 METHODS = {

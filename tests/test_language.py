@@ -154,7 +154,8 @@ class LanguageTest(unittest.TestCase):
                 self.assertIn(node.name, SPECIAL, file)
 
     def test_l8_l12_l15_names(self):
-        known = set(dir(builtins))
+        # A doctest leaves what it has shown last in the builtins, as _.
+        known = set(dir(builtins)) - {"_"}
         for file, tree in TREES.items():
             for line, name in names_bound(tree):
                 self.assertNotIn(name, known, (file, line))
@@ -162,8 +163,10 @@ class LanguageTest(unittest.TestCase):
                 self.assertNotIn(name, BARRED, (file, line))
             here = {name for line, name in names_bound(tree)} | self.imports_and_classes(tree)
             for node in ast.walk(tree):
-                if isinstance(node, ast.Name) and node.id not in here and node.id in known:
-                    self.assertIn(node.id, BUILTINS, (file, node.lineno))
+                if isinstance(node, ast.Name) and isinstance(node.ctx, ast.Load):
+                    self.assertNotEqual(node.id, "_", (file, node.lineno))
+                    if node.id not in here and node.id in known:
+                        self.assertIn(node.id, BUILTINS, (file, node.lineno))
 
     def test_l17_l27_words(self):
         for path in FILES:

@@ -1,0 +1,101 @@
+"""Whether two stretches of any house are alike.
+
+Here amounts are tuples in the order of the kinds. What a stretch makes of the amounts that can tell it from others
+stands for its act: a tuple with an item for each of these amounts.
+"""
+
+from calledbest.begins import beginning_sets
+from calledbest.errors import TooMany
+from calledbest.forks import is_nested
+
+MOST_AMOUNTS = 20000
+
+
+def check_few(house, number, most):
+    """Raise TooMany if the house is not nested, and has more than most amounts of up to number things of a kind."""
+    many = 1
+    for _ in house[0]:
+        many = many * (number + 1)
+    if many > most and not is_nested(house):
+        raise TooMany(most)
+
+
+def calls_accepting(stretch, kind):
+    """Return how many calls of a stretch accept a kind."""
+    return len([1 for deed in stretch if deed[0] == "call" and kind in deed[1]])
+
+
+def most_needed(house, stretches):
+    """Return the list that has for each kind the most calls of one of the stretches that accept it."""
+    return [max([calls_accepting(stretch, kind) for stretch in stretches]) for kind in house[0]]
+
+
+def telling_amounts(house, most):
+    """Return amounts of which any two unlike stretches make unlike ones.
+
+    Of each kind most has at least as many things as calls of a stretch accept it: further ones would just stay.
+    """
+    if is_nested(house):
+        # With all kinds of B, and no others, n(A) changes by the number M(A, B) of the brief: these tell all of it.
+        return [
+            tuple([number if kind in part else 0 for kind, number in zip(house[0], most)])
+            for part in beginning_sets(house)
+        ]
+    grid = [()]
+    for number in most:
+        grid = [(*amounts, here) for amounts in grid for here in range(number + 1)]
+    return grid
+
+
+def changed_at(amounts, at, number):
+    """Return amounts with so many things more of the kind with this index."""
+    return (*amounts[:at], amounts[at] + number, *amounts[at + 1:])
+
+
+def amounts_behind(house, deed, amounts):
+    """Return the amounts behind a deed."""
+    if deed[0] == "put":
+        return changed_at(amounts, house[0].index(deed[1]), 1)
+    for kind in deed[1]:
+        at = house[0].index(kind)
+        if amounts[at] > 0:
+            return changed_at(amounts, at, -1)
+    return amounts
+
+
+def act_behind(house, known, act, deed):
+    """Return the act of a stretch with this act, and behind it a deed.
+
+    What each deed makes of amounts is kept in known, as few amounts come again and again.
+    """
+    steps = known.setdefault(deed, {})
+    for amounts in act:
+        if amounts not in steps:
+            steps[amounts] = amounts_behind(house, deed, amounts)
+    return tuple([steps[amounts] for amounts in act])
+
+
+def act_of(house, known, stretch, grid):
+    """Return the act of a stretch: what it makes of each of the amounts of grid."""
+    act = tuple(grid)
+    for deed in stretch:
+        act = act_behind(house, known, act, deed)
+    return act
+
+
+def parting_amounts(house, one, other):
+    """Return amounts of which two stretches make unlike ones, None if they are alike."""
+    check_few(house, max(len(one), len(other)), MOST_AMOUNTS)
+    grid = telling_amounts(house, most_needed(house, [one, other]))
+    known = {}
+    mine = act_of(house, known, one, grid)
+    its = act_of(house, known, other, grid)
+    for at, amounts in enumerate(grid):
+        if mine[at] != its[at]:
+            return {kind: amounts[house[0].index(kind)] for kind in sorted(house[0])}
+    return None
+
+
+def are_alike(house, one, other):
+    """Tell whether two stretches are alike."""
+    return parting_amounts(house, one, other) is None
