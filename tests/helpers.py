@@ -115,6 +115,22 @@ def random_log(chance, house, length, drops=True):
     return tuple(rows)
 
 
+def random_row(chance, house, log):
+    """Return a row that can come into a log: the name of a put is new, that of a drop any one."""
+    sort = chance.choice(["put", "call", "drop"])
+    if sort == "put":
+        return "put", "".join(chance.sample("mnopqr", 5)), chance.choice(house[0])
+    if sort == "call":
+        return "call", chance.choice(house[1])
+    return "drop", chance.choice([row[1] for row in log if row[0] == "put"] + ["never"])
+
+
+def mends_of(chance, house, log):
+    """Return a list of mends of a log with one at each place, and one for each row."""
+    more = [("more", index, random_row(chance, house, log)) for index in range(len(log) + 1)]
+    return more + [("less", index) for index in range(len(log))]
+
+
 def all_amounts(house, most):
     """Return all amounts with at most so many things of each kind, keys not ascending."""
     kinds = sorted(house[0], reverse=True)

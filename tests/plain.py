@@ -241,3 +241,84 @@ def settled(stretch):
         if one[0] == "put" and other[0] == "call" and other[1][0] == one[1]:
             return settled(stretch[:at] + stretch[at + 2:])
     return stretch
+
+
+def names_behind(rows):
+    """Return the set of the names of the things that are there behind rows."""
+    return {name for name, kind in played(rows)[-1][1]} if rows else set()
+
+
+def rows_by(log, mends, moment):
+    """Return the tuple of the rows that are done at a moment with mends, in their order."""
+    rows = []
+    for index in range(moment + 1):
+        rows.extend(mend[2] for mend in mends if mend[0] == "more" and mend[1] == index)
+        if index < moment and ("less", index) not in mends:
+            rows.append(log[index])
+    return tuple(rows)
+
+
+def apart(log, mends):
+    """Return the list of the names that are there with mends alone, and without them alone, for each moment."""
+    found = []
+    for moment in range(len(log) + 1):
+        one, other = names_behind(rows_by(log, mends, moment)), names_behind(log[:moment])
+        found.append((tuple(sorted(one - other)), tuple(sorted(other - one))))
+    return found
+
+
+def played_on(there, row):
+    """Return the list of (name, kind) of what is there behind a row, and what it tells."""
+    puts = [("put", name, kind) for name, kind in there]
+    told, behind = played([*puts, row])[-1]
+    return behind, told
+
+
+def wanderers(log, moment):
+    """Return the list of (sort, name) of all wanderers at a moment."""
+    here = names_behind(log[:moment])
+    return [("less" if row[1] in here else "more", row[1]) for row in log[:moment] if row[0] == "put"]
+
+
+def path(log, moment, sort, name):
+    """Return the list of the names by which a wanderer differs, both going on by the same rows."""
+    here = names_behind(log[:moment])
+    other = here ^ {name}
+    puts = [(row[1], row[2]) for row in log[:moment] if row[0] == "put"]
+    one = [thing for thing in puts if thing[0] in here]
+    two = [thing for thing in puts if thing[0] in other]
+    names = [name]
+    for row in log[moment:]:
+        one, _ = played_on(one, row)
+        two, _ = played_on(two, row)
+        more, less = set(two) - set(one), set(one) - set(two)
+        apart_now, none = (more, less) if sort == "more" else (less, more)
+        assert len(apart_now) <= 1 and not none
+        names.append(min(apart_now)[0] if apart_now else None)
+    return names
+
+
+def told_with(log, mends, index):
+    """Return what the call with this index tells with mends, of which none leaves it out."""
+    rows = rows_by(log, mends, index)
+    return played([*rows, log[index]])[-1][0]
+
+
+def chosen(house, choice, log):
+    """Return the list of (name, kind) of what is there behind a log, calls going by a choice."""
+    there = []
+    for row in log:
+        if row[0] == "put":
+            there = there + [row[1:]]
+            continue
+        gone = [row[1]]
+        if row[0] == "call":
+            part = tuple(kind for kind in house[0] if kind in row[1] and kind in {thing[1] for thing in there})
+            gone = [thing[0] for thing in there if thing[1] == choice[(row[1], part)]][:1]
+        there = [thing for thing in there if thing[0] not in gone]
+    return there
+
+
+def ends_of_orders(house, amounts, deeds, later):
+    """Return the list of the amounts behind all orders of deeds, and later behind them."""
+    return [acted(house, order + later, amounts) for order in set(itertools.permutations(deeds))]

@@ -61,6 +61,17 @@ FUNCTIONS = {
         "struck(stretch, indexes)", "settled(house, stretch)", "can_be_struck(house, stretch, indexes)",
         "greatest_strikes(house, stretch)",
     ],
+    "shortest": ["shortest_alike(house, stretch)", "shortest_with(house, brief, most)"],
+    "wander": ["mended(log, mend)", "wander(house, log, mend)"],
+    "woods": ["path_of(house, log, moment, sort, name)", "ends_of(house, log)"],
+    "late": ["mended_by(log, mends)", "differs(house, log, mends)", "new_told(house, log, mend)"],
+    "choices": [
+        "is_choice(house, thing)", "best_choice(house)", "there_by(house, choice, log)", "unsteady(house, choice)",
+        "parting_log(house, choice)",
+    ],
+    "asks": ["mends_that_serve(house, log, index)", "least_strikes(house, log, index, name)"],
+    "lost": ["lost_ends(house, amounts, deeds, later)"],
+    "ordering": ["order_with(house, amounts, deeds, later, part, number)"],
 }
 
 METHODS = {
