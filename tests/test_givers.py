@@ -175,6 +175,7 @@ class GiversTest(CallCase):
         yield (marks, list(gives.items()), notes)
         yield (marks, gives, list(notes.items()))
         yield (marks, {}, {})
+        yield (0, {}, {})
 
     def test_a_hundred_marks(self):
         chance = random.Random(146)

@@ -86,6 +86,15 @@ class StruckTest(CallCase):
             for _ in range(2):
                 self.hold(house, random_stretch(chance, house, length))
 
+    def test_greatest_lots_of_different_lengths(self):
+        house = (("a", "b", "c"), (("a",), ("a", "b"), ("a", "b", "c"), ("a", "c"), ("b", "c")))
+        stretch = (
+            ("put", "a"), ("call", ("a", "b", "c")), ("put", "b"), ("call", ("a", "b")), ("call", ("b", "c")),
+            ("call", ("a", "b")), ("put", "b"),
+        )
+        self.assertEqual(greatest_strikes(house, stretch), [(0, 1), (0, 2, 3, 4), (0, 2, 4, 5)])
+        self.hold(house, stretch)
+
     def test_twelve_and_thirteen_deeds(self):
         chance = random.Random(164)
         for house in (ONE, AB, FORKED, CROSSED, THREE, *nested_random_houses(164, 4)):
