@@ -7,16 +7,14 @@ stands for its act: a tuple with an item for each of these amounts.
 from calledbest.begins import beginning_sets
 from calledbest.errors import TooMany
 from calledbest.forks import is_nested
+from calledbest.piles import amounts_shown, grid_size, grid_up_to, piled_behind
 
 MOST_AMOUNTS = 20000
 
 
 def check_few(house, number, most):
     """Raise TooMany if the house is not nested, and has more than most amounts of up to number things of a kind."""
-    many = 1
-    for _ in house[0]:
-        many = many * (number + 1)
-    if many > most and not is_nested(house):
+    if grid_size(house, number) > most and not is_nested(house):
         raise TooMany(most)
 
 
@@ -41,26 +39,7 @@ def telling_amounts(house, most):
             tuple([number if kind in part else 0 for kind, number in zip(house[0], most)])
             for part in beginning_sets(house)
         ]
-    grid = [()]
-    for number in most:
-        grid = [(*amounts, here) for amounts in grid for here in range(number + 1)]
-    return grid
-
-
-def changed_at(amounts, at, number):
-    """Return amounts with so many things more of the kind with this index."""
-    return (*amounts[:at], amounts[at] + number, *amounts[at + 1:])
-
-
-def amounts_behind(house, deed, amounts):
-    """Return the amounts behind a deed."""
-    if deed[0] == "put":
-        return changed_at(amounts, house[0].index(deed[1]), 1)
-    for kind in deed[1]:
-        at = house[0].index(kind)
-        if amounts[at] > 0:
-            return changed_at(amounts, at, -1)
-    return amounts
+    return grid_up_to(most)
 
 
 def act_behind(house, known, act, deed):
@@ -71,7 +50,7 @@ def act_behind(house, known, act, deed):
     steps = known.setdefault(deed, {})
     for amounts in act:
         if amounts not in steps:
-            steps[amounts] = amounts_behind(house, deed, amounts)
+            steps[amounts] = piled_behind(house, deed, amounts)
     return tuple([steps[amounts] for amounts in act])
 
 
@@ -92,7 +71,7 @@ def parting_amounts(house, one, other):
     its = act_of(house, known, other, grid)
     for at, amounts in enumerate(grid):
         if mine[at] != its[at]:
-            return {kind: amounts[house[0].index(kind)] for kind in sorted(house[0])}
+            return amounts_shown(house, amounts)
     return None
 
 

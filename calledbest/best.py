@@ -1,6 +1,7 @@
 """What hindsight can serve of a plain log."""
 
 from calledbest.forms import are_indexes, is_index
+from calledbest.pairs import Pairs, led_to, many_joined
 
 
 def makes_pair(log, put, call):
@@ -25,73 +26,17 @@ def calls_for(log):
     return {put: [call for call in calls if makes_pair(log, put, call)] for put in indexes_of(log, "put")}
 
 
-class Hindsight:
-    """A giving of a log that grows call by call: a call that is served stays so, perhaps by another put."""
-
-    def __init__(self, log):
-        self.puts = puts_for(log)
-        self.given = {}
-        self.takers = {}
-
-    def serve(self, call):
-        """Serve one call more, and return whether that can be."""
-        came = {}
-        put = self._free_put(call, came)
-        if put is None:
-            return False
-        # The free put goes to the call from which it was come to, the put of this one to the call before, and so on.
-        while put is not None:
-            taker = came[put]
-            passed = self.given.get(taker)
-            self.given[taker] = put
-            self.takers[put] = taker
-            put = passed
-        return True
-
-    def _free_put(self, call, came):
-        """Return a put that is free, keeping in came from which call each put was come to, None if there is none."""
-        waiting = [call]
-        while waiting != []:
-            at = waiting.pop()
-            for put in self.puts[at]:
-                if put not in came:
-                    came[put] = at
-                    if put not in self.takers:
-                        return put
-                    waiting.append(self.takers[put])
-        return None
-
-    def giving(self):
-        """Return the giving."""
-        return {call: self.given[call] for call in sorted(self.given)}
-
-    def left_calls(self):
-        """Return the list of the calls that are not served."""
-        return [call for call in self.puts if call not in self.given]
-
-
-def led_to(beside, mates, starts):
-    """Return the list of all that exchanges lead to from starts: on to one beside, and from there to its mate."""
-    found = list(starts)
-    seen = {start: True for start in starts}
-    waiting = list(starts)
-    while waiting != []:
-        at = waiting.pop()
-        for other in beside[at]:
-            mate = mates.get(other)
-            if mate is not None and mate not in seen:
-                seen[mate] = True
-                found.append(mate)
-                waiting.append(mate)
-    return found
-
-
 def served_best(log):
-    """Return the Hindsight of a log that serves as many calls as can be."""
-    hindsight = Hindsight(log)
+    """Return the Pairs of a log in which as many calls as can be are served."""
+    pairs = Pairs(puts_for(log))
     for call in indexes_of(log, "call"):
-        hindsight.serve(call)
-    return hindsight
+        pairs.pair_up(call)
+    return pairs
+
+
+def spare_calls(pairs):
+    """Return the list of the calls that could be the ones that are not served, as many being so."""
+    return led_to(pairs.beside, pairs.mates, [call for call in pairs.beside if call not in pairs.mates])
 
 
 def best_of(house, log):
@@ -101,17 +46,17 @@ def best_of(house, log):
 
 def giving_of(house, log):
     """Return a giving with as many calls as can be."""
-    return served_best(log).giving()
+    return served_best(log).mates_of(indexes_of(log, "call"))
 
 
 def cover_of(house, log):
     """Return a cover with as few members as can be."""
-    hindsight = served_best(log)
-    # The spare calls could as well be the ones that are not served. None of their puts is free, so all of these are
-    # given to spare calls; with the other calls, all served, they are just as many as the calls that are served.
-    spare = led_to(hindsight.puts, hindsight.takers, hindsight.left_calls())
-    puts = {put: True for call in spare for put in hindsight.puts[call]}
-    calls = {call: True for call in hindsight.puts}
+    pairs = served_best(log)
+    # None of the puts of spare calls is free, so all of these are given to spare calls; with the other calls, all
+    # served, they are just as many as the calls that are served.
+    spare = spare_calls(pairs)
+    puts = {put: True for call in spare for put in pairs.beside[call]}
+    calls = {call: True for call in pairs.beside}
     for call in spare:
         del calls[call]
     return tuple(sorted(puts)), tuple(sorted(calls))
@@ -143,20 +88,13 @@ def is_cover(house, log, thing):
 
 def best_at(house, log):
     """Return the list of the best of the rows done, for each moment."""
-    hindsight = Hindsight(log)
-    numbers = [0]
-    for index, row in enumerate(log):
-        # A call behind has no way but its own to a put more: what could not be served stays so.
-        served = row[0] == "call" and hindsight.serve(index)
-        numbers.append(numbers[index] + (1 if served else 0))
-    return numbers
+    return many_joined(log, "call", puts_for(log))
 
 
 def needed_rows(house, log):
     """Return the ascending list of the rows that, each left out by itself, leave a best that is one less."""
-    hindsight = served_best(log)
-    left_puts = [put for put in indexes_of(log, "put") if put not in hindsight.takers]
-    spare_calls = led_to(hindsight.puts, hindsight.takers, hindsight.left_calls())
-    spare_puts = led_to(calls_for(log), hindsight.given, left_puts)
-    spare = {index: True for index in spare_calls + spare_puts}
+    pairs = served_best(log)
+    free_puts = [put for put in indexes_of(log, "put") if put not in pairs.mates]
+    spare_puts = led_to(calls_for(log), pairs.mates, free_puts)
+    spare = {index: True for index in spare_calls(pairs) + spare_puts}
     return [index for index in range(len(log)) if index not in spare]

@@ -1,25 +1,26 @@
 """Which calls of a plain log can be served together."""
 
-from calledbest.best import Hindsight, led_to, puts_for
+from calledbest.best import puts_for
 from calledbest.forms import are_indexes
+from calledbest.pairs import Pairs, led_to
 
 
 def giving_for(house, log, calls):
     """Return a giving whose keys are just these calls, None if there is none."""
-    hindsight = Hindsight(log)
+    pairs = Pairs(puts_for(log))
     for call in calls:
-        if not hindsight.serve(call):
+        if not pairs.pair_up(call):
             return None
-    return hindsight.giving()
+    return pairs.mates_of(calls)
 
 
 def lack_for(house, log, calls):
     """Return a lack with members of calls alone, None if all of them can be served together."""
-    hindsight = Hindsight(log)
+    pairs = Pairs(puts_for(log))
     for call in calls:
-        if not hindsight.serve(call):
+        if not pairs.pair_up(call):
             # All puts that stand in a pair with one of these calls are given to another one of them.
-            return tuple(sorted(led_to(hindsight.puts, hindsight.takers, [call])))
+            return tuple(sorted(led_to(pairs.beside, pairs.mates, [call])))
     return None
 
 
@@ -33,9 +34,9 @@ def is_lack(house, log, thing):
 
 def dearest(house, log, worths):
     """Return the greatest sum of worths of the calls of a giving, and such a giving."""
-    hindsight = Hindsight(log)
+    pairs = Pairs(puts_for(log))
     total = 0
     for call in sorted(worths, key=lambda index: (-worths[index], index)):
-        if hindsight.serve(call):
+        if pairs.pair_up(call):
             total = total + worths[call]
-    return total, hindsight.giving()
+    return total, pairs.mates_of(sorted(worths))

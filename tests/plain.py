@@ -322,3 +322,62 @@ def chosen(house, choice, log):
 def ends_of_orders(house, amounts, deeds, later):
     """Return the list of the amounts behind all orders of deeds, and later behind them."""
     return [acted(house, order + later, amounts) for order in set(itertools.permutations(deeds))]
+
+
+def with_further(stretch, sorts, most):
+    """Return the list of all stretches with at most so many further deeds, as tuples of (deed, its index or None)."""
+    found = {tuple((deed, index) for index, deed in enumerate(stretch))}
+    last = found
+    for _ in range(most):
+        last = {
+            marked[:at] + ((deed, None),) + marked[at:]
+            for marked in last for at in range(len(marked) + 1) for deed in sorts
+        }
+        found = found | last
+    return sorted(found, key=repr)
+
+
+def kinds_taken_at(house, marked, amounts, index):
+    """Return the kind that the deed with this index takes, None if none, further deeds being marked by None."""
+    at = [mark for deed, mark in marked].index(index)
+    left = acted(house, tuple(deed for deed, mark in marked[:at]), amounts)
+    return next((kind for kind in marked[at][0][1] if left[kind] > 0), None)
+
+
+def weavings(one, other):
+    """Return the list of all weavings of two stretches."""
+    many = len(one) + len(other)
+    return [
+        tuple(int(at in places) for at in range(many)) for places in itertools.combinations(range(many), len(other))
+    ]
+
+
+def woven(one, other, weaving):
+    """Return the stretch that is woven so."""
+    rest = {0: list(one), 1: list(other)}
+    return tuple(rest[at].pop(0) for at in weaving)
+
+
+def numbers_of(house, amounts):
+    """Return amounts as a tuple in the order of the kinds."""
+    return tuple(amounts[kind] for kind in house[0])
+
+
+def is_enough(house, stretch, amounts):
+    """Tell whether all calls of a stretch are served."""
+    for at, (sort, what) in enumerate(stretch):
+        left = acted(house, stretch[:at], amounts)
+        if sort == "call" and not any(left[kind] for kind in what):
+            return False
+    return True
+
+
+def least_needs(house, stretch):
+    """Return the ascending list of all amounts, as tuples, that are enough, and not with one thing less."""
+    enough = {
+        numbers_of(house, amounts) for amounts in amounts_up_to(house, len(stretch)) if is_enough(house, stretch, amounts)
+    }
+    return sorted(
+        numbers for numbers in enough
+        if not any(numbers[:at] + (numbers[at] - 1,) + numbers[at + 1:] in enough for at in range(len(numbers)))
+    )

@@ -72,6 +72,32 @@ FUNCTIONS = {
     "asks": ["mends_that_serve(house, log, index)", "least_strikes(house, log, index, name)"],
     "lost": ["lost_ends(house, amounts, deeds, later)"],
     "ordering": ["order_with(house, amounts, deeds, later, part, number)"],
+    "holes": [
+        "holes_range(house, amounts, stretch, sorts, most, part)",
+        "holes_stretch(house, amounts, stretch, sorts, most, part, number)",
+        "taken_perhaps(house, amounts, stretch, sorts, most, index)",
+        "sure_served(house, amounts, stretch, sorts, most, index)",
+    ],
+    "joint": ["joint_amounts(house, amounts, deeds)", "order_to(house, amounts, deeds, numbers)"],
+    "weave": [
+        "woven(one, other, weaving)", "woven_amounts(house, amounts, one, other)",
+        "woven_range(house, amounts, one, other, part)", "weaving_to(house, amounts, one, other, part, number)",
+    ],
+    "needs": [
+        "are_all_served(house, stretch, amounts)", "least_needs(house, stretch)", "cheapest_need(house, stretch, prices)",
+    ],
+    "turns": [
+        "is_turn(house, thing)", "acted_days(house, turns, stretch, amounts)", "told_days(house, turns, log)",
+        "kind_by(turns, kind, word)", "best_days(house, turns, log)",
+    ],
+    "daycalls": [
+        "parts_later(house, turns, one, other)", "day_forks(house, turns)", "day_orders(house, turns)",
+        "day_losing_log(house, turns)",
+    ],
+    "daybriefs": [
+        "leads_back(house, turn, part)", "is_plain_turn(house, turn)", "day_brief(house, turns, stretch)",
+        "acted_by_days(house, brief, amounts)",
+    ],
 }
 
 METHODS = {
