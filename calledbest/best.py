@@ -1,12 +1,17 @@
 """What hindsight can serve of a plain log."""
 
 from calledbest.forms import are_indexes, is_index
-from calledbest.pairs import Pairs, led_to, many_joined
+from calledbest.pairs import Pairs, led_to, most_at
+
+
+def fits(log, put, call):
+    """Tell whether a call accepts the kind of a put, both told by their indexes."""
+    return log[put][2] in log[call][1]
 
 
 def makes_pair(log, put, call):
     """Tell whether a put and a call, told by their indexes, are a pair of the log."""
-    return put < call and log[put][2] in log[call][1]
+    return put < call and fits(log, put, call)
 
 
 def indexes_of(log, sort):
@@ -62,16 +67,21 @@ def cover_of(house, log):
     return tuple(sorted(puts)), tuple(sorted(calls))
 
 
-def is_giving(house, log, thing):
-    """Tell whether thing is a giving of the log."""
-    if not isinstance(thing, dict) or not all([is_given(log, call, put) for call, put in thing.items()]):
+def are_mates(log, thing):
+    """Tell whether thing is a dict from indexes of calls to indexes of puts that they accept, all different."""
+    if not isinstance(thing, dict) or not all([is_mate(log, call, put) for call, put in thing.items()]):
         return False
     return len(set(list(thing.values()))) == len(thing)
 
 
-def is_given(log, call, put):
-    """Tell whether these two values are the indexes of a call and of a put with which it is a pair."""
-    return is_index(log, "call", call) and is_index(log, "put", put) and makes_pair(log, put, call)
+def is_mate(log, call, put):
+    """Tell whether these two values are the indexes of a call and of a put whose kind it accepts."""
+    return is_index(log, "call", call) and is_index(log, "put", put) and fits(log, put, call)
+
+
+def is_giving(house, log, thing):
+    """Tell whether thing is a giving of the log."""
+    return are_mates(log, thing) and all([put < call for call, put in thing.items()])
 
 
 def is_cover(house, log, thing):
@@ -88,7 +98,7 @@ def is_cover(house, log, thing):
 
 def best_at(house, log):
     """Return the list of the best of the rows done, for each moment."""
-    return many_joined(log, "call", puts_for(log))
+    return most_at(log, "call", puts_for(log))
 
 
 def needed_rows(house, log):

@@ -3,6 +3,7 @@
 from calledbest.begins import sets_of
 from calledbest.best import best_at
 from calledbest.forms import are_in_order, is_call, is_integer
+from calledbest.play import tally
 
 MOST_MARKS = 100
 
@@ -87,11 +88,7 @@ def given_by(house, giver, log):
 
 def served_by(house, giver, log):
     """Return the list of how many calls have been given a thing, for each moment."""
-    names = given_by(house, giver, log)
-    numbers = [0]
-    for index in range(len(log)):
-        numbers.append(numbers[index] + (0 if names.get(index) is None else 1))
-    return numbers
+    return tally(log, [index for index, name in given_by(house, giver, log).items() if name is not None])
 
 
 def first_loss(house, giver, log):

@@ -1,5 +1,7 @@
 """Pairs of rows: as many as can be, each row in one at most."""
 
+from calledbest.play import tally
+
 
 class Pairs:
     """Pairs that grow row by row: a row that is in one stays so, perhaps with another mate.
@@ -25,6 +27,13 @@ class Pairs:
             self.mates[free] = taker
             free = passed
         return True
+
+    def come(self, row, others):
+        """Let a row come that lies beside others, which came ahead of it, and return whether there is a pair more."""
+        self.beside[row] = list(others)
+        for other in others:
+            self.beside[other].append(row)
+        return self.pair_up(row)
 
     def _free_row(self, row, came):
         """Return a row that is free, keeping in came from which row each one was come to, None if there is none."""
@@ -60,12 +69,12 @@ def led_to(beside, mates, starts):
     return found
 
 
-def many_joined(log, sort, beside):
+def most_at(log, sort, beside):
     """Return the list of the most pairs of the rows done, for each moment, if rows of this sort come with beside."""
     pairs = Pairs(beside)
-    numbers = [0]
+    bringing = []
     for index, row in enumerate(log):
         # A row of the other sort lies beside rows behind it alone: what could be in no pair stays so.
-        joined = row[0] == sort and pairs.pair_up(index)
-        numbers.append(numbers[index] + (1 if joined else 0))
-    return numbers
+        if row[0] == sort and pairs.pair_up(index):
+            bringing.append(index)
+    return tally(log, bringing)

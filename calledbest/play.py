@@ -3,15 +3,21 @@
 from calledbest.shelf import amounts_on, do_row
 
 
-def told_by(house, log):
-    """Return the dict from the indexes of the calls to the names that they tell, or None."""
+def told_in_copy(log, lacks):
+    """Return the dict from the indexes, in the log, of the calls that do not lack to what they tell without lacks."""
     things = {}
     told = {}
     for index, row in enumerate(log):
-        name = do_row(things, row)
-        if row[0] == "call":
-            told[index] = name
+        if index not in lacks:
+            name = do_row(things, row)
+            if row[0] == "call":
+                told[index] = name
     return told
+
+
+def told_by(house, log):
+    """Return the dict from the indexes of the calls to the names that they tell, or None."""
+    return told_in_copy(log, ())
 
 
 def taken_by(house, log):
@@ -40,8 +46,13 @@ def amounts_at(house, log, moment):
 
 def served_at(house, log):
     """Return the list of how many calls have been served, for each moment."""
-    served = taken_by(house, log)
+    return tally(log, taken_by(house, log))
+
+
+def tally(log, indexes):
+    """Return the list of how many of the rows done are among those with these indexes, for each moment."""
+    told = {index: True for index in indexes}
     numbers = [0]
     for index in range(len(log)):
-        numbers.append(numbers[index] + (1 if index in served else 0))
+        numbers.append(numbers[index] + (1 if index in told else 0))
     return numbers

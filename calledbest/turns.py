@@ -2,7 +2,7 @@
 
 from calledbest.acts import do_deed
 from calledbest.forms import has_just_keys
-from calledbest.pairs import many_joined
+from calledbest.pairs import most_at
 from calledbest.shelf import do_row
 
 
@@ -74,4 +74,4 @@ def puts_by_days(turns, log):
 
 def best_days(house, turns, log):
     """Return the best of a day log."""
-    return many_joined(log, "call", puts_by_days(turns, log))[-1]
+    return most_at(log, "call", puts_by_days(turns, log))[-1]

@@ -22,20 +22,28 @@ def played(log):
     return behind
 
 
-def best(log):
-    """Return the best of a plain log: as many calls are served as chains of other puts for them allow."""
-    given = {}
+def most_mates(beside):
+    """Return how many keys can have a mate each of those in their lists, chains of other mates making room."""
+    mates = {}
 
-    def serve(call, tried):
-        for put, row in enumerate(log[:call]):
-            if row[0] == "put" and row[2] in log[call][1] and put not in tried:
-                tried.add(put)
-                if put not in given or serve(given[put], tried):
-                    given[put] = call
+    def pair(one, tried):
+        for other in beside[one]:
+            if other not in tried:
+                tried.add(other)
+                if other not in mates or pair(mates[other], tried):
+                    mates[other] = one
                     return True
         return False
 
-    return len([call for call, row in enumerate(log) if row[0] == "call" and serve(call, set())])
+    return len([one for one in beside if pair(one, set())])
+
+
+def best(log):
+    """Return the best of a plain log."""
+    return most_mates({
+        call: [put for put, row in enumerate(log[:call]) if row[0] == "put" and row[2] in log[call][1]]
+        for call in indexes_of(log, "call")
+    })
 
 
 def acted(house, stretch, amounts):

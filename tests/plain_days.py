@@ -96,20 +96,11 @@ def givings(turns, log):
 
 
 def best(turns, log):
-    """Return the best of a day log: as many calls are served as chains of other puts for them allow."""
+    """Return the best of a day log."""
     beside = pairs(turns, log)
-    given = {}
-
-    def serve(call, tried):
-        for put, later in beside:
-            if later == call and put not in tried:
-                tried.add(put)
-                if put not in given or serve(given[put], tried):
-                    given[put] = call
-                    return True
-        return False
-
-    return len([call for call in plain.indexes_of(log, "call") if serve(call, set())])
+    return plain.most_mates({
+        call: [put for put, later in beside if later == call] for call in plain.indexes_of(log, "call")
+    })
 
 
 def kind_by(turns, kind, word):

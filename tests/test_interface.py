@@ -98,12 +98,39 @@ FUNCTIONS = {
         "leads_back(house, turn, part)", "is_plain_turn(house, turn)", "day_brief(house, turns, stretch)",
         "acted_by_days(house, brief, amounts)",
     ],
+    "mirrored": [
+        "mirrored(house, preference)", "mirrored_log(house, preference, log)", "played_waiting(house, preference, log)",
+        "best_waiting(house, log)", "best_waiting_at(house, log)", "waiting_crossing(house)", "best_preference(house)",
+    ],
+    "both": [
+        "played_both(house, log)", "pairing_of(house, log)", "both_at(house, log)", "best_both_at(house, log)",
+        "best_both(house, log)", "is_pairing(house, log, thing)", "loses_both(house)",
+    ],
+    "copies": [
+        "copy_of(log, lacks)", "apart_at(house, log, one, other)", "same_told(house, log, one, other)",
+        "sure_told(house, log, most)",
+    ],
+    "explain": [
+        "explains(house, log, lacks, answers)", "least_lacks(house, log, answers, most)",
+        "lacks_told(house, log, answers, most)",
+    ],
+    "designs": [
+        "least_calls_out(house)", "calls_to_add(house)", "merges_that_nest(house)", "merged(house, one, other)",
+        "nested_by(house)",
+    ],
+    "sides": ["beside(one, other)", "parted(one, other, stretch)", "laid(one, other, mine, its)"],
 }
 
 METHODS = {
     ("store", "Store(house)"): [
         "put(self, name, kind)", "take(self, call)", "drop(self, name)", "there(self)", "amounts(self)", "rows(self)", "twin(self)",
     ],
+    ("book", "Book(house)"): [
+        "tell(self, day, deed)", "strike(self, index)", "begin(self, amounts)", "forget(self, day)", "number_of(self, part, day)",
+        "rows(self)", "kept_brief(self)", "amounts(self, day)", "brief_of(self, first, last)", "first_day(self)", "back(self)",
+        "again(self)", "twin(self)",
+    ],
+    ("desk", "Desk(text)"): ["execute(self, line)", "book(self)"],
 }
 
 
