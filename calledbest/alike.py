@@ -1,13 +1,13 @@
 """Whether two stretches of any house are alike.
 
-Here amounts are tuples in the order of the kinds. What a stretch makes of the amounts that can tell it from others
+Here amounts are NUMBERS, as in acts. What a stretch makes of the amounts that can tell it from others
 stands for its act: a tuple with an item for each of these amounts.
 """
 
+from calledbest.acts import amounts_shown, grid_size, grid_up_to, piled_behind
 from calledbest.begins import beginning_sets
 from calledbest.errors import TooMany
 from calledbest.forks import is_nested
-from calledbest.piles import amounts_shown, grid_size, grid_up_to, piled_behind
 
 MOST_AMOUNTS = 20000
 

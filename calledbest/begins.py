@@ -22,9 +22,33 @@ def is_beginning(house, part):
     return all([is_within(start, part) for start in starts])
 
 
+def masks_needed(house, bits):
+    """Return the dict from each kind to the bits of the kinds that are ahead of it in some call that accepts it."""
+    needed = {kind: 0 for kind in house[0]}
+    for call in house[1]:
+        ahead = 0
+        for kind in call:
+            needed[kind] = needed[kind] | ahead
+            ahead = ahead | bits[kind]
+    return needed
+
+
+def beginning_masks(house):
+    """Return the dict from all beginning sets, ascending, to MASKS: integers with a bit for each of their kinds."""
+    bits = {kind: 1 << at for at, kind in enumerate(house[0])}
+    needed = masks_needed(house, bits)
+    masks = {(): 0}
+    for kind in house[0]:
+        # A kind needs those that are ahead of it, and no others: these have had their turn.
+        for part, mask in list(masks.items()):
+            if mask & needed[kind] == needed[kind]:
+                masks[(*part, kind)] = mask | bits[kind]
+    return {part: masks[part] for part in sorted(masks)}
+
+
 def beginning_sets(house):
     """Return the ascending list of all beginning sets."""
-    return sorted([part for part in sets_of(house[0]) if is_beginning(house, part)])
+    return list(beginning_masks(house))
 
 
 def least_beginning(house, part):

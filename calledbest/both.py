@@ -1,8 +1,7 @@
 """Calls and things that both wait for each other."""
 
 from calledbest.acts import log_of
-from calledbest.best import are_mates, fits, indexes_of
-from calledbest.pairs import Pairs
+from calledbest.best import Pairs, are_mates, fits, indexes_of
 from calledbest.play import tally
 
 

@@ -1,10 +1,11 @@
 """Briefs: stretches of a nested house as so many integers.
 
-Inside, a brief is a TABLE: the beginning sets are told by their indexes, and the table is a list that has for each
-set A the dict from the sets B within A to the integers M(A, B).
+Where briefs are joined, a brief is a TABLE: the beginning sets are told by their indexes, and the table is a list that
+has for each set A the dict from the sets B within A to the integers M(A, B).
 """
 
-from calledbest.begins import amounts_of, beginning_sets, counts_of, is_within
+from calledbest.acts import do_deed
+from calledbest.begins import amounts_of, beginning_masks, beginning_sets, counts_of, is_within
 from calledbest.forks import check_nested
 from calledbest.forms import has_just_keys, is_integer
 
@@ -13,19 +14,6 @@ def sets_between(sets):
     """Return the list that has for each set A the dict from each C within A to the list of all B between them."""
     within = [{at: True for at, part in enumerate(sets) if is_within(part, whole)} for whole in sets]
     return [{last: [at for at in row if last in within[at]] for last in row} for row in within]
-
-
-def deed_number(deed, one, other):
-    """Return the integer of two beginning sets, the second within the first, in the brief of a deed."""
-    if deed[0] == "put":
-        return 1 if deed[1] in one else 0
-    # The brief of the smaller set alone is asked: what it has of the call the greater one has, too.
-    return -1 if any([kind in other for kind in deed[1]]) else 0
-
-
-def deed_table(sets, between, deed):
-    """Return the table of a deed."""
-    return [{at: deed_number(deed, sets[whole], sets[at]) for at in row} for whole, row in enumerate(between)]
 
 
 def joined_table(between, one, other):
@@ -49,13 +37,23 @@ def brief_shown(sets, table):
 def brief_of(house, stretch):
     """Return the brief of a stretch."""
     check_nested(house)
-    sets = beginning_sets(house)
-    between = sets_between(sets)
-    tables = {deed: deed_table(sets, between, deed) for deed in sorted(set(stretch))}
-    table = [{at: 0 for at in row} for row in between]
-    for deed in stretch:
-        table = joined_table(between, table, tables[deed])
-    return brief_shown(sets, table)
+    many = len(stretch)
+    masks = beginning_masks(house)
+    # With as many things of each kind of B as calls could take, and no others, n(B) is so great that n(B) + M(A, B) is
+    # the greatest sum for each A that B is within: what n(A) is behind the stretch tells M(A, B).
+    columns = []
+    for part, mask in masks.items():
+        amounts = {kind: many if kind in part else 0 for kind in house[0]}
+        for deed in stretch:
+            do_deed(amounts, deed)
+        columns.append((part, mask, amounts, many * len(part)))
+    return {
+        whole: {
+            part: sum([amounts[kind] for kind in whole]) - ahead
+            for part, mask, amounts, ahead in columns if mask & inside == mask
+        }
+        for whole, inside in masks.items()
+    }
 
 
 def joined(house, one, other):

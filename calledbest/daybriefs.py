@@ -39,8 +39,8 @@ def day_brief(house, turns, stretch):
     backs = {whole: led_back(house, turns, stretch, whole) for whole in sets}
     brief = {whole: {} for whole in sets}
     for part in sets:
-        # With more things of the kinds of B than calls could take, and no others, n(B) counts for most in n(A) if all
-        # these things come to be in A: what n(A) is more or less is M(A, B).
+        # With as many things of each kind of B as calls could take, and no others, n(B) + M(A, B) is the greatest sum
+        # for each A in which all these things come to be: what n(A) is behind the stretch tells M(A, B).
         ahead = {kind: len(stretch) if kind in part else 0 for kind in house[0]}
         behind = acted_days(house, turns, stretch, ahead)
         for whole in sets:

@@ -24,15 +24,19 @@ def is_fork(house, thing):
 
 
 def is_nested(house):
-    """Tell whether the house has no fork."""
-    return forks_of(house) == []
+    """Tell whether the house has no fork: whether all calls that accept a kind have the same tail of it."""
+    tails = {}
+    for call in house[1]:
+        for at, kind in enumerate(call):
+            if tails.setdefault(kind, call[at:]) != call[at:]:
+                return False
+    return True
 
 
 def check_nested(house):
     """Raise NotNested with the least fork if the house has one."""
-    forks = forks_of(house)
-    if forks != []:
-        raise NotNested(forks[0])
+    if not is_nested(house):
+        raise NotNested(forks_of(house)[0])
 
 
 def next_kinds(house):

@@ -1,13 +1,13 @@
 """What further deeds change that stood anywhere in a stretch, and are not known of.
 
-A LAYER tells of a moment of the stretch. It is the dict from the amounts, as tuples, that can be there to tuples
-(used, ahead, deed): the least number of further deeds up to there, the amounts ahead of the last deed, and this deed
-if it is a further one, otherwise None. At first, where nothing is done, ahead is None.
+A LAYER tells of a moment of the stretch. It is the dict from the NUMBERS that can be there, amounts as tuples, to
+tuples (used, ahead, deed): the least number of further deeds up to there, the NUMBERS ahead of the last deed, and this
+deed if it is a further one, otherwise None. At first, where nothing is done, ahead is None.
 """
 
+from calledbest.acts import count_piled, kind_on, piled, piled_behind
 from calledbest.errors import NoIndex, NoNumber, TooMany
 from calledbest.forms import is_index
-from calledbest.piles import count_piled, kind_on, piled, piled_behind
 
 MOST_FURTHER = 3
 

@@ -2,7 +2,7 @@
 
 from calledbest.errors import NoNumber, TooMany
 from calledbest.forms import is_integer
-from calledbest.strands import end_of, reached_by, weaving_back
+from calledbest.weave import end_of, reached_by, weaving_back
 
 MOST_DEEDS = 12
 

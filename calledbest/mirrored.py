@@ -4,10 +4,9 @@ That is a store the other way about: in the mirrored house calls are the things,
 """
 
 from calledbest.acts import log_of
-from calledbest.best import fits, indexes_of
+from calledbest.best import fits, indexes_of, most_at
 from calledbest.errors import TooMany
 from calledbest.forms import MOST_KINDS
-from calledbest.pairs import most_at
 
 
 def check_few_calls(house):

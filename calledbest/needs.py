@@ -1,8 +1,7 @@
 """What has to be there ahead of a stretch so that all its calls are served."""
 
-from calledbest.acts import do_deed
+from calledbest.acts import amounts_shown, changed_at, do_deed, grid_size, grid_up_to
 from calledbest.errors import TooMany
-from calledbest.piles import amounts_shown, changed_at, grid_size, grid_up_to
 
 MOST_AMOUNTS = 20000
 

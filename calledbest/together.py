@@ -1,8 +1,7 @@
 """Which calls of a plain log can be served together."""
 
-from calledbest.best import puts_for
+from calledbest.best import Pairs, led_to, puts_for
 from calledbest.forms import are_indexes
-from calledbest.pairs import Pairs, led_to
 
 
 def giving_for(house, log, calls):

@@ -1,8 +1,8 @@
 """Turns: days on which all things turn into other kinds, or perish."""
 
 from calledbest.acts import do_deed
+from calledbest.best import most_at
 from calledbest.forms import has_just_keys
-from calledbest.pairs import most_at
 from calledbest.shelf import do_row
 
 

@@ -129,6 +129,55 @@ class AsksTest(CallCase):
             for name in names:
                 self.assertEqual(least_strikes(house, log, 30, name), self.brute_strikes(log, 30, name))
 
+    def test_all_strikes_with_many_drops(self):
+        chance = random.Random(224)
+        sizes = set()
+        for house in (ONE, AB, FORKED, CROSSED, *random_houses(224, 10, 4)):
+            for _ in range(3):
+                log = list(random_log(chance, house, 11))
+                names = [row[1] for row in log if row[0] == "put"]
+                for name in names[:3]:
+                    # A thing is dropped ahead of its put, behind it, and once more.
+                    log[chance.randrange(len(log))] = ("drop", name)
+                log = tuple(log) + (("call", chance.choice(house[1])),)
+                for name in [row[1] for row in log if row[0] == "put"] + names[:1] + ["never"]:
+                    told = self.assert_steady(least_strikes, house, log, 11, name)
+                    self.assertEqual(told, self.brute_strikes(log, 11, name))
+                    sizes.add(None if told is None else len(told))
+        self.assertEqual(sizes, {None, 0, 1, 2, 3})
+
+    def test_index_thirty(self):
+        # So many calls that take x, drops of x, and things of the better kind are in the way.
+        for calls, drops, things in (
+            (0, 0, 0), (1, 0, 0), (0, 1, 0), (0, 0, 1), (1, 1, 0), (0, 1, 1), (1, 1, 1), (0, 3, 0), (3, 0, 0), (0, 0, 3),
+            (2, 2, 0), (0, 4, 0), (4, 0, 0), (1, 1, 2), (0, 0, 4),
+        ):
+            rows = (("put", "x", "b"),) + (("call", ("b",)),) * calls + (("drop", "x"),) * drops
+            rows = rows + tuple(("put", "t" + letter, "a") for letter in "abcd"[:things])
+            log = (("call", ("b",)),) * (30 - len(rows)) + rows + (("call", ("a", "b")),)
+            told = self.assert_steady(least_strikes, AB, log, 30, "x")
+            many = calls + drops + things
+            self.assertEqual(told, tuple(range(30 - many, 30)) if many <= 3 else None)
+            self.assertEqual(told, self.brute_strikes(log, 30, "x"))
+
+    def test_where_no_strike_helps(self):
+        puts = tuple(("put", letter, "a") for letter in "abcdefghijklmno")
+        log = puts + (("call", ("b",)),) * 16
+        for name in ("zz", "a", "o"):
+            self.assertIsNone(least_strikes(AB, log, 30, name))
+        log = puts[:10] + (("call", ("b",)),) * 10
+        self.assertIsNone(least_strikes(AB, log, 19, "zz"))
+        self.assertIsNone(self.brute_strikes(log, 19, "zz"))
+        # Fifteen things, each with a drop of its own: it would take the drop of one, and those ahead of it.
+        log = puts + tuple(("drop", row[1]) for row in puts) + (("call", ("a", "b")),)
+        self.assertEqual([least_strikes(AB, log, 30, name) for name in "abo"], [(15,), (16,), (29,)])
+        stays = puts + tuple(("drop", row[1]) for row in puts[4:]) + (("drop", "z"),) * 4 + (("call", ("a", "b")),)
+        self.assertEqual([least_strikes(AB, stays, 30, name) for name in "abcd"], [(), (0,), (0, 1), (0, 1, 2)])
+        self.assertIsNone(least_strikes(AB, stays, 30, "e"))
+        self.assertIsNone(self.brute_strikes(stays, 30, "e"))
+        # What is put at the call or behind it is not told.
+        self.assertIsNone(least_strikes(ONE, (("call", ("a",)), ("put", "x", "a")), 0, "x"))
+
     def test_two_hundred_rows(self):
         chance = random.Random(223)
         for house in random_houses(223, 3) + [GREATEST, CROSSED, ONE]:

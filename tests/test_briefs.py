@@ -88,6 +88,49 @@ class BriefsTest(CallCase):
                 for stretch in itertools.product(deeds_of(house), repeat=length):
                     self.assertEqual(brief_of(house, stretch), plain.brief(house, stretch))
 
+    def deed_by_deed(self, house, stretch):
+        """Return the brief of a stretch by the rules of [25]: those of its deeds, joined one behind the other."""
+        begins = plain.beginning_sets(house)
+        brief = {whole: {part: 0 for part in begins if set(part) <= set(whole)} for whole in begins}
+        for deed in stretch:
+            later = {whole: {part: self.number(deed, whole, part) for part in brief[whole]} for whole in begins}
+            brief = plain.joined(house, brief, later)
+        return brief
+
+    def test_deed_by_deed(self):
+        chance = random.Random(100)
+        for house in nested_houses() + nested_random_houses(100, 25):
+            for length in (0, 1, 2, 5, 12):
+                stretch = random_stretch(chance, house, length)
+                self.assertEqual(self.assert_steady(brief_of, house, stretch), self.deed_by_deed(house, stretch))
+        star = (tuple("abcdef"), tuple(sorted([("f",)] + [(kind, "f") for kind in "abcde"])))
+        for house in (star, APART, (tuple("fedcba"), (tuple("fedcba"),))):
+            for length in (6, 60):
+                stretch = random_stretch(chance, house, length)
+                self.assertEqual(brief_of(house, stretch), self.deed_by_deed(house, stretch))
+
+    def test_many_short_stretches(self):
+        # Four kinds, each with a call of its own: kinds are told of one by one.
+        house = (tuple("abcd"), tuple((kind,) for kind in "abcd"))
+        stretch = (("put", "a"), ("put", "b"), ("put", "c"), ("call", ("a",)), ("call", ("b",)))
+        brief = brief_of(house, stretch)
+        self.assertEqual(brief, self.deed_by_deed(house, stretch))
+        self.assertEqual(brief[tuple("abcd")], {part: int(True) for part in brief})
+        for length in range(3):
+            for short in itertools.product(deeds_of(house), repeat=length):
+                self.assertEqual(brief_of(house, short), self.deed_by_deed(house, short))
+
+    def test_calls_alone_and_puts_alone(self):
+        # No more things than calls can take tell all: two hundred calls take two hundred of each kind.
+        for house in (ONE, AB, TREE):
+            for call in house[1]:
+                for stretch in ((("call", call),) * 200, (("call", call),) * 100 + (("put", call[0]),) * 100):
+                    brief = brief_of(house, stretch)
+                    self.assertEqual(brief, self.deed_by_deed(house, stretch))
+                    for many in (0, 99, 100, 200, 201, 10 ** 9):
+                        amounts = {kind: many for kind in house[0]}
+                        self.assertEqual(acted_by(house, brief, amounts), plain.acted(house, stretch, amounts))
+
     def test_it_acts_as_the_stretch_does(self):
         chance = random.Random(92)
         for house in nested_houses() + nested_random_houses(92, 30):
