@@ -16,12 +16,6 @@ def is_within(part, whole):
     return all([kind in whole for kind in part])
 
 
-def is_beginning(house, part):
-    """Tell whether in each call the kinds of part are ahead of the others."""
-    starts = [call[:len(in_order(call, part))] for call in house[1]]
-    return all([is_within(start, part) for start in starts])
-
-
 def masks_needed(house, bits):
     """Return the dict from each kind to the bits of the kinds that are ahead of it in some call that accepts it."""
     needed = {kind: 0 for kind in house[0]}

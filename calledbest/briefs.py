@@ -42,11 +42,11 @@ def brief_of(house, stretch):
     # With as many things of each kind of B as calls could take, and no others, n(B) is so great that n(B) + M(A, B) is
     # the greatest sum for each A that B is within: what n(A) is behind the stretch tells M(A, B).
     columns = []
-    for part, mask in masks.items():
-        amounts = {kind: many if kind in part else 0 for kind in house[0]}
+    for kinds, bits in masks.items():
+        left = {kind: many if kind in kinds else 0 for kind in house[0]}
         for deed in stretch:
-            do_deed(amounts, deed)
-        columns.append((part, mask, amounts, many * len(part)))
+            do_deed(left, deed)
+        columns.append((kinds, bits, left, many * len(kinds)))
     return {
         whole: {
             part: sum([amounts[kind] for kind in whole]) - ahead

@@ -1,6 +1,6 @@
 """Day briefs: day stretches of a nested house, by turns that are plain, as so many integers."""
 
-from calledbest.begins import amounts_of, beginning_sets, count_in, is_beginning, is_within
+from calledbest.begins import amounts_of, beginning_sets, count_in, is_within
 from calledbest.errors import NoBrief
 from calledbest.forks import check_nested
 from calledbest.turns import acted_days
@@ -13,7 +13,8 @@ def leads_back(house, turn, part):
 
 def is_plain_turn(house, turn):
     """Tell whether what leads back from each beginning set is a beginning set."""
-    return all([is_beginning(house, leads_back(house, turn, part)) for part in beginning_sets(house)])
+    sets = beginning_sets(house)
+    return all([leads_back(house, turn, part) in sets for part in sets])
 
 
 def check_plain(house, turns):

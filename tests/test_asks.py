@@ -160,6 +160,21 @@ class AsksTest(CallCase):
             self.assertEqual(told, tuple(range(30 - many, 30)) if many <= 3 else None)
             self.assertEqual(told, self.brute_strikes(log, 30, "x"))
 
+    def test_drops_of_one_thing_again_and_again(self):
+        # Without one of its drops the thing ahead is dropped all the same.
+        log = (("put", "o", "a"), ("put", "x", "a"), ("drop", "o"), ("drop", "o"), ("call", ("a",)), ("call", ("a",)))
+        self.assertEqual(least_strikes(ONE, log, 5, "x"), (4,))
+        self.assertEqual(least_strikes(ONE, log, 5, "o"), (2, 3, 4))
+        self.assertEqual(least_strikes(ONE, log[:3] + log[4:], 4, "x"), (2,))
+        for name in ("o", "x"):
+            self.assertEqual(least_strikes(ONE, log, 5, name), self.brute_strikes(log, 5, name))
+
+    def test_thirty_puts(self):
+        log = tuple(("put", "p" + letter, "a") for letter in "abcdefghijklmnopqrstuvwxyz") + (("put", "x", "b"),)
+        log = log + (("drop", "pa"), ("drop", "pz"), ("call", ("b",)), ("call", ("b",)))
+        self.assertEqual(least_strikes(AB, log, 30, "x"), (29,))
+        self.assertIsNone(least_strikes(AB, log, 30, "pa"))
+
     def test_where_no_strike_helps(self):
         puts = tuple(("put", letter, "a") for letter in "abcdefghijklmno")
         log = puts + (("call", ("b",)),) * 16

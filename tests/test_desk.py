@@ -80,6 +80,18 @@ class DeskTest(CallCase):
         for line in ("1 call put", "1 call call", "put put", "begin put 1 rows 3 call 2", "number 1 rows put"):
             self.assert_raises(NoCommand, {}, desk.execute, line)
 
+    def test_more_kinds_than_calls_and_fewer(self):
+        desk = Desk("kinds a b c\ncall a b c")
+        self.assertEqual(desk.execute("begin a 1 b 2 c 3"), ["done"])
+        self.assertEqual(desk.execute("amounts 0"), ["a 1", "b 2", "c 3"])
+        desk = Desk("kinds a b\ncall a\ncall b\n")
+        self.assertEqual(desk.execute("begin a 1 b 2"), ["done"])
+        desk = Desk("kinds a b c d\ncall a c\ncall b c\ncall c\ncall d")
+        self.assertEqual(desk.execute("begin a 4 b 3 c 2 d 1"), ["done"])
+        for line in ("begin a 1", "begin a 4 b 3 c 2", "begin a 4 b 3 c 2 d 1 a 1", "begin d 1 c 2 b 3 a 4"):
+            self.assert_raises(NoCommand, {}, desk.execute, line)
+        self.assertEqual(desk.execute("number 0 a b d"), ["8"])
+
     def test_texts(self):
         for value in any_values():
             if not isinstance(value, str):
