@@ -36,7 +36,8 @@ def beginning_masks(house):
         # A kind needs those that are ahead of it, and no others: these have had their turn.
         for part, mask in list(masks.items()):
             if mask & needed[kind] == needed[kind]:
-                masks[(*part, kind)] = mask | bits[kind]
+                grown = (*part, kind)
+                masks[grown] = mask | bits[kind]
     return {part: masks[part] for part in sorted(masks)}
 
 

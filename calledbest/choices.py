@@ -44,7 +44,8 @@ def there_by(house, choice, log):
 
 def is_steady(choice, call, part, kind):
     """Tell whether with this kind more the choice is this kind, or what it is without it."""
-    return choice[(call, in_order(call, (*part, kind)))] in (kind, choice[(call, part)])
+    grown = in_order(call, (*part, kind))
+    return choice[(call, grown)] in (kind, choice[(call, part)])
 
 
 def unsteady(house, choice):

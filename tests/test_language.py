@@ -153,6 +153,21 @@ class LanguageTest(unittest.TestCase):
             if node.name.startswith("__"):
                 self.assertIn(node.name, SPECIAL, file)
 
+    def test_l7_no_star_in_an_index(self):
+        for file, tree in TREES.items():
+            self.assertEqual(starred_indexes(tree), [], file)
+
+    def test_l7_which_indexes_have_a_star(self):
+        starred = (
+            "d[(*p, k)] = 1", "d[*p, k]", "d[(k, f((*p, k)))]", "d[f(*p)]", "d[f(**e)]", "d[{**e}]", "del d[[*p][0]:]",
+            "a[0][(*p, k)]", "d[(*p, k)][0] += 1", "f(d[a[(*p, k)]])",
+        )
+        for text in starred:
+            self.assertEqual(starred_indexes(ast.parse(text))[:1], [1], text)
+        # A star ahead of the brackets, behind them, or around them is none within them.
+        for text in ("g = (*p, k)\nd[g] = 1", "(*p, k)[0]", "[*d[k], 1]", "f(*d[k], **e[k])", "d[k] = (*p, k)", "d[2 * k]"):
+            self.assertEqual(starred_indexes(ast.parse(text)), [], text)
+
     def test_l8_l12_l15_names(self):
         # A doctest leaves what it has shown last in the builtins, as _.
         known = set(dir(builtins)) - {"_"}
@@ -249,6 +264,18 @@ class LanguageTest(unittest.TestCase):
                 fine.add(id(node.comparators[0]))
         found = [node for node in ast.walk(function) if isinstance(node, ast.Name) and node.id == name]
         return [node.lineno for node in found if id(node) not in fine]
+
+
+def starred_indexes(tree):
+    """Return the lines of the indexes and slices within whose brackets a star or ** unpacks something."""
+    indexes = [node for node in ast.walk(tree) if isinstance(node, ast.Subscript)]
+    return [node.lineno for node in indexes if any(is_starred(part) for part in ast.walk(node.slice))]
+
+
+def is_starred(node):
+    """Tell whether an expression is a star, a keyword from a **, or a dict into which a ** unpacks something."""
+    keyword = isinstance(node, ast.keyword) and node.arg is None
+    return isinstance(node, ast.Starred) or keyword or (isinstance(node, ast.Dict) and None in node.keys)
 
 
 def is_set(node):
